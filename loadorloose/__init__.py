@@ -1,0 +1,1 @@
+"""Frames in the plane, the loads that they carry, and the ways in which they give way."""

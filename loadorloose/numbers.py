@@ -31,6 +31,14 @@ def over(a, b):
     return number(a[0] * b[1], a[1] * b[0])
 
 
+def summed(numbers):
+    """The sum of a list of numbers."""
+    total = (0, 1)
+    for a in numbers:
+        total = plus(total, a)
+    return total
+
+
 def less(a, b):
     """Whether a is less than b."""
     return a[0] * b[1] < b[0] * a[1]

@@ -5,7 +5,7 @@ import unittest
 from fractions import Fraction
 from math import gcd
 
-from loadorloose.numbers import brought, less, lowest, minus, number, over, plus, sign, times
+from loadorloose.numbers import brought, less, lowest, minus, number, over, plus, sign, summed, times
 from support import drawing, fraction, is_number, number_of
 
 SIZES = (1, 2, 12, 10 ** 6, 10 ** 30, 10 ** 100, 10 ** 400)
@@ -125,6 +125,14 @@ class Lists(unittest.TestCase):
             divisor = gcd(*given)
             expected = [n // divisor for n in given] if divisor else given
             self.assertEqual(lowest(given), expected)
+
+    def test_summed(self):
+        self.assertEqual(summed([]), (0, 1))
+        self.assertEqual(summed([(1, 2), (1, 3), (-5, 6)]), (0, 1))
+        draw = drawing(10)
+        for _ in range(100):
+            numbers = [drawn_number(draw) for _ in range(draw.randint(1, 9))]
+            self.assertEqual(summed(numbers), number_of(sum(fraction(a) for a in numbers)))
 
     def test_brought(self):
         self.assertEqual(brought([(1, 2), (1, 3)]), [3, 2])

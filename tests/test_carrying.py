@@ -177,8 +177,9 @@ class Large(Checking):
         draw = drawing(229)
         for size in (LARGE ** 3, LARGE ** 40):
             points, members, pins = large_frame(draw, "both", 2)
-            frame = (points, tuple((i, j, draw.randint(0, size), draw.randint(0, size)) for i, j, _, _ in members), pins)
-            tensions = tuple(draw.randint(-push, pull) for _, _, pull, push in frame[1])
+            members = tuple(m[:2] + (draw.randint(0, size), draw.randint(0, size)) for m in members)
+            frame = (points, members, pins)
+            tensions = tuple(draw.randint(-push, pull) for _, _, pull, push in members)
             self.check(frame, load_of(draw, frame, tensions), "tensions")
             self.check(frame, times_load(drawn_load(draw, frame, LARGE), size), "motion")
 

@@ -195,8 +195,8 @@ class Tensions(unittest.TestCase):
             self.assertIs(self.judge(frame, load, tensions), True)
             if tensions:
                 k = draw.randrange(len(tensions))
-                other = tensions[:k] + (number_of(tensions[k][0] + draw.choice((1, Fraction(1, 7)))),) + tensions[k + 1:]
-                self.judge(frame, load, other)
+                other = number_of(tensions[k][0] + draw.choice((1, Fraction(1, 7))))
+                self.judge(frame, load, tensions[:k] + (other,) + tensions[k + 1:])
 
     def test_at_the_limits_and_beyond(self):
         for tension, expected in (
@@ -221,7 +221,8 @@ class Tensions(unittest.TestCase):
 
     def test_reactions(self):
         frame = (((0, 0), (2, 0), (2, 5)), ((0, 1, None, None),), (0, 2))
-        self.assertEqual(reactions(frame, ((1, 1), (3, 0), (4, 5)), ((3, 2),)), (((-4, 1), (-1, 1)), ((-4, 1), (-5, 1))))
+        found = reactions(frame, ((1, 1), (3, 0), (4, 5)), ((3, 2),))
+        self.assertEqual(found, (((-4, 1), (-1, 1)), ((-4, 1), (-5, 1))))
 
     def test_pins_need_no_balance(self):
         points = ((0, 0), (2, 0))

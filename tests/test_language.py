@@ -40,6 +40,18 @@ INTERFACE = {
     "carrying": {"carry": ["frame", "load"]},
     "factors": {"greatest": ["frame", "load"]},
     "strengths": {"use": ["frame", "k", "motion"], "cheapest": ["frame", "costs", "loads"]},
+    "holding": {
+        "is_rigid": ["points", "motion"], "is_proper": ["frame", "tensions"], "hold": ["frame"], "stiffen": ["frame"],
+    },
+    "judging": {
+        "is_carry": ["frame", "load", "answer"], "is_greatest": ["frame", "load", "answer"],
+        "is_cheapest": ["frame", "costs", "loads", "answer"], "is_hold": ["frame", "answer"],
+        "is_stiffen": ["frame", "answer"],
+    },
+    "counting": {
+        "are_independent": ["n", "pairs"], "chosen": ["net"], "count_rank": ["net"], "is_enough": ["net"],
+    },
+    "building": {"building": ["net"], "is_building": ["net", "steps"]},
 }
 
 

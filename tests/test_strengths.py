@@ -113,8 +113,9 @@ class Cheapest(Checking):
         points = ((0, 0), (1, 0), (0, 1), (-1, 1))
         members = ((0, 1, None, None), (0, 2, None, None), (0, 3, None, None))
         load = [((1, 0), (0, 0), (0, 0), (0, 0))]
-        self.assertEqual(self.check((points, members, (1, 2, 3)), (1, 1, 1), load)[1:3], ((1, 1), ((1, 1), (0, 1), (0, 1))))
-        self.assertEqual(self.check((points, members, (1, 2, 3)), (9, 2, 3), load)[1:3], ((5, 1), ((0, 1), (1, 1), (1, 1))))
+        frame = (points, members, (1, 2, 3))
+        self.assertEqual(self.check(frame, (1, 1, 1), load)[1:3], ((1, 1), ((1, 1), (0, 1), (0, 1))))
+        self.assertEqual(self.check(frame, (9, 2, 3), load)[1:3], ((5, 1), ((0, 1), (1, 1), (1, 1))))
 
     def test_drawn(self):
         draw = drawing(263)

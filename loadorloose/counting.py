@@ -25,9 +25,10 @@ class Holder:
         return True
 
     def bring(self, joint, other):
-        """Bring a pebble to a joint that lacks one, from any joint but the other one; whether there is one."""
-        if self.pebbles[joint] == 2:
-            return False
+        """Bring a pebble to a joint that lacks one, from any joint but the other one; whether there is one.
+
+        A joint that lacks none is no tail, so that there is none for it.
+        """
         before = self.reached(joint)
         givers = [place for place in before if place not in (joint, other) and self.pebbles[place] > 0]
         if not givers:

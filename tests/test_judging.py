@@ -373,6 +373,53 @@ class Known(Checking):
         self.assertIs(self.judge(is_cheapest, (empty, (), [()]), ("cost", (1, 1), (), [()], [()])), False)
 
 
+class Forms(unittest.TestCase):
+    """Answers that have none of the forms are told to be wrong, too."""
+
+    def test_parts_of_other_kinds(self):
+        frame = (((0, 0), (2, 0)), ((0, 1, 3, 2),), (0,))
+        load, moved = ((0, 0), (4, 0)), ((0, 0), (1, 0))
+        rest = ((0, 1), (0, 1))
+        asked = {
+            is_carry: (frame, load), is_greatest: (frame, load), is_hold: (frame,), is_stiffen: (frame,),
+            is_cheapest: (frame, (5,), [noughts(frame)]),
+        }
+        for judging, right, wrong in (
+            (is_carry, ("tensions", ((2, 1),)), (((4, 2),), ((-2, -1),), ((2, 1), (0, 1)), (), (2,), [(2, 1)], 2)),
+            (is_greatest, ("most", (3, 2), ((3, 1),), moved), ()),
+            (is_cheapest, ("cost", (0, 1), ((0, 1),), [((0, 1),)], [(rest, rest)]), ()),
+            (is_stiffen, ("bends", moved), (moved[:1], moved + ((0, 0),), rest, (0, 1), [(0, 0), (1, 0)], 7)),
+            (is_hold, ("moves", moved), (moved[:1], moved + ((0, 0),), rest, (0, 1), [(0, 0), (1, 0)], 7)),
+        ):
+            self.assertIs(judging(*asked[judging], right), True)
+            self.assertIs(judging(*asked[judging], right[:-1]), False)
+            self.assertIs(judging(*asked[judging], right + ((),)), False)
+            for part in wrong:
+                self.assertIs(judging(*asked[judging], (right[0], part)), False, part)
+
+    def test_parts_of_other_kinds_among_several(self):
+        frame = (((0, 0), (2, 0)), ((0, 1, 3, 2),), (0,))
+        moved, tensions = ((0, 0), (1, 0)), ((3, 1),)
+        for answer in (
+            ("most", (6, 4), tensions, moved), ("most", 1, tensions, moved), ("most", (3, 2), ((6, 2),), moved),
+            ("most", (3, 2), (), moved), ("most", (3, 2), tensions, moved[:1]), ("any", ((0, 2),)), ("any", ()),
+        ):
+            self.assertIs(is_greatest(frame, ((0, 0), (4, 0)), answer), False)
+        self.assertIs(is_greatest(frame, noughts(frame), ("any", ((0, 2),))), False)
+        asked = (frame, (5,), [noughts(frame)])
+        rest = ((0, 1), (0, 1))
+        strengths, some, motions = ((0, 1),), [((0, 1),)], [(rest, rest)]
+        for answer in (
+            ("cost", (0, 1), (), some, motions), ("cost", (0, 1), strengths, [], motions),
+            ("cost", (0, 1), strengths, some * 2, motions), ("cost", (0, 1), strengths, [((0, 2),)], motions),
+            ("cost", (0, 1), strengths, [()], motions), ("cost", (0, 1), strengths, some, []),
+            ("cost", (0, 1), strengths, some, motions * 2), ("cost", (0, 1), strengths, some, [noughts(frame)]),
+            ("cost", (0, 1), strengths, some, [(rest,)]), ("cost", (0, 1), strengths, some, [(rest, rest, rest)]),
+            ("cost", 0, strengths, some, motions), ("never", 0, (rest, rest)), ("never", "0", moved),
+        ):
+            self.assertIs(is_cheapest(*asked, answer), False)
+
+
 class Large(Checking):
     def test_greatest_counts(self):
         draw = drawing(365)

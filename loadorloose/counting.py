@@ -1,5 +1,7 @@
 """Counting: how many of a net's pairs are independent (point 16)."""
 
+from loadorloose.reaching import reached
+
 
 class Holder:
     """Holds independent pairs: it takes each one that is independent together with those that it has taken.
@@ -17,11 +19,17 @@ class Holder:
 
     def take(self, i, j):
         """Take the pair of two joints if it is independent; whether it was taken."""
+        if not self.has_room(i, j):
+            return False
+        self.pebbles[i] -= 1
+        self.heads[i].append(j)
+        return True
+
+    def has_room(self, i, j):
+        """Whether the pair of two joints is independent, together with those taken; four pebbles are then there."""
         while self.pebbles[i] + self.pebbles[j] < 4:
             if not self.bring(i, j) and not self.bring(j, i):
                 return False
-        self.pebbles[i] -= 1
-        self.heads[i].append(j)
         return True
 
     def bring(self, joint, other):
@@ -29,24 +37,12 @@ class Holder:
 
         A joint that lacks none is no tail, so that there is none for it.
         """
-        before = self.reached(joint)
+        before = reached(self.heads, joint)
         givers = [place for place in before if place not in (joint, other) and self.pebbles[place] > 0]
         if not givers:
             return False
         self.pass_on(givers[0], before)
         return True
-
-    def reached(self, joint):
-        """A dict of the joints from which a pebble may come to the joint, each with the joint that gets it first."""
-        before = {joint: None}
-        waiting = [joint]
-        while waiting:
-            tail = waiting.pop()
-            for head in self.heads[tail]:
-                if head not in before:
-                    before[head] = tail
-                    waiting.append(head)
-        return before
 
     def pass_on(self, joint, before):
         """Pass a pebble of a joint to the joint before it, and so on until there is none before."""

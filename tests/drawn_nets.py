@@ -83,3 +83,30 @@ def own_building(net, steps):
         joints.add(k)
         there |= {tuple(sorted((k, end))) for end in numbers[1:]}
     return joints == set(range(n)) and there <= set(pairs)
+
+
+def own_count_rank(draw, n, pairs):
+    """The count rank: the rank of the growths for places drawn by a large prime, which hardly ever is less."""
+    prime = 2 ** 89 - 1
+    points = [(draw.randrange(prime), draw.randrange(prime)) for _ in range(n)]
+    rows = []
+    for i, j in pairs:
+        row = [0] * (2 * n)
+        for c in (0, 1):
+            row[2 * i + c] = points[i][c] - points[j][c]
+            row[2 * j + c] = points[j][c] - points[i][c]
+        rows.append(row)
+    return prime_rank(rows, prime)
+
+
+def prime_rank(rows, prime):
+    """The rank of rows by a prime."""
+    found = 0
+    while rows:
+        leader = rows.pop()
+        place = next((k for k, cell in enumerate(leader) if cell % prime), None)
+        if place is not None:
+            found += 1
+            over = pow(leader[place], -1, prime)
+            rows = [[(a - row[place] * over * b) % prime for a, b in zip(row, leader)] for row in rows]
+    return found

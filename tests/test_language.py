@@ -52,6 +52,10 @@ INTERFACE = {
         "are_independent": ["n", "pairs"], "chosen": ["net"], "count_rank": ["net"], "is_enough": ["net"],
     },
     "building": {"building": ["net"], "is_building": ["net", "steps"]},
+    "covers": {"cover": ["net"], "cover_sum": ["sets"], "is_cover": ["net", "sets"]},
+    "placing": {"growth_rank": ["points", "pairs"], "placed": ["net"]},
+    "adding": {"spare": ["net"], "fewest": ["net", "offers"]},
+    "grids": {name: ["r", "c", "braces"] for name in ("grid_frame", "grid_stiff", "grid_motion", "parted")},
 }
 
 
@@ -145,6 +149,7 @@ class Words(unittest.TestCase):
         for path, _, tree in sources():
             imported = {node.name for node in ast.walk(tree) if isinstance(node, ast.alias)}
             classes = {node.name for node in ast.walk(tree) if isinstance(node, ast.ClassDef)}
+            methods = {part for node in ast.walk(tree) if isinstance(node, ast.ClassDef) for part in node.body}
             taken = imported | classes | set(dir(__import__("builtins"))) | BARRED
             for node in ast.walk(tree):
                 if isinstance(node, ast.Name) and isinstance(node.ctx, ast.Store):
@@ -152,10 +157,11 @@ class Words(unittest.TestCase):
                 elif isinstance(node, ast.arg):
                     self.assertNotIn(node.arg, taken, path)
                 elif isinstance(node, ast.FunctionDef):
-                    self.assertNotIn(node.name, imported | BARRED, path)
+                    # A method may have the name of an import.
+                    self.assertNotIn(node.name, BARRED if node in methods else imported | BARRED, path)
 
     def test_iterators_are_iterated_at_once(self):
-        takers = {"list", "tuple", "dict", "sorted", "sum", "any", "all", "enumerate", "zip", "min", "max", "reversed"}
+        takers = set("list tuple dict sorted sum any all enumerate zip min max reversed product combinations".split())
         for path, _, tree in sources():
             allowed = set()
             for node in ast.walk(tree):
@@ -165,7 +171,7 @@ class Words(unittest.TestCase):
                     allowed.update(node.args)
             for node in ast.walk(tree):
                 if isinstance(node, ast.Call) and isinstance(node.func, ast.Name):
-                    if node.func.id in ("zip", "enumerate", "reversed", "range"):
+                    if node.func.id in ("zip", "enumerate", "reversed", "range", "product", "combinations"):
                         self.assertIn(node, allowed, (path, node.lineno))
 
     def test_modules_hold_no_state(self):

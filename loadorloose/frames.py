@@ -1,6 +1,6 @@
 """Frames: their motions, the work of loads, and tensions that carry them (points 6 to 10)."""
 
-from loadorloose.numbers import minus, plus, summed, times
+from loadorloose.numbers import dotted, minus, plus, summed, times
 
 NOUGHT = (0, 1)
 
@@ -14,7 +14,7 @@ def growth(frame, k, motion):
     v = motion[i]
     w = motion[j]
     if is_of_numbers(motion):
-        return plus(times((x, 1), minus(v[0], w[0])), times((y, 1), minus(v[1], w[1])))
+        return dotted((x, y), (minus(v[0], w[0]), minus(v[1], w[1])))
     return x * (v[0] - w[0]) + y * (v[1] - w[1])
 
 
@@ -50,7 +50,7 @@ def work(load, motion):
         return 0
     if not is_of_numbers(motion):
         return sum([f[0] * v[0] + f[1] * v[1] for f, v in zip(load, motion)])
-    return summed([plus(times((f[0], 1), v[0]), times((f[1], 1), v[1])) for f, v in zip(load, motion)])
+    return summed([dotted(force, velocity) for force, velocity in zip(load, motion)])
 
 
 def missing(frame, load, tensions):

@@ -39,6 +39,11 @@ def summed(numbers):
     return total
 
 
+def dotted(vector, pair):
+    """The number that a vector gives with a tuple of two numbers: the sum of the products of their coordinates."""
+    return plus(times((vector[0], 1), pair[0]), times((vector[1], 1), pair[1]))
+
+
 def less(a, b):
     """Whether a is less than b."""
     return a[0] * b[1] < b[0] * a[1]

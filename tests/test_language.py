@@ -56,6 +56,19 @@ INTERFACE = {
     "placing": {"growth_rank": ["points", "pairs"], "placed": ["net"]},
     "adding": {"spare": ["net"], "fewest": ["net", "offers"]},
     "grids": {name: ["r", "c", "braces"] for name in ("grid_frame", "grid_stiff", "grid_motion", "parted")},
+    "faces": {name: ["points", "pairs"] for name in ("is_plane", "rounds", "outer")},
+    "surfaces": {
+        "surface": ["points", "pairs", "tensions"], "slopes": ["points", "pairs", "tensions"],
+        "tensions_of": ["points", "pairs", "heights"],
+    },
+    "texts": {"write_frame": ["frame"], "read_frame": ["text"]},
+    "yard": {"Yard": []},
+}
+YARD = {
+    "put": ["name", "frame"], "frame": ["name"], "names": [], "add_joint": ["name", "point"],
+    "add_member": ["name", "member"], "drop_member": ["name", "k"], "move": ["name", "joint", "point"],
+    "pin": ["name", "joint"], "free": ["name", "joint"], "limit": ["name", "k", "pull", "push"],
+    "carry": ["name", "load"], "greatest": ["name", "load"], "hold": ["name"], "stiffen": ["name"],
 }
 
 
@@ -194,6 +207,11 @@ class Interface(unittest.TestCase):
                 self.assertEqual(thing.__module__, found.__name__)
                 if arguments is not None:
                     self.assertEqual(list(inspect.signature(thing).parameters), arguments, name)
+
+    def test_methods_of_a_yard(self):
+        own = vars(import_module("loadorloose.yard").Yard)
+        for name, arguments in YARD.items():
+            self.assertEqual(list(inspect.signature(own[name]).parameters)[1:], arguments, name)
 
 
 if __name__ == "__main__":
